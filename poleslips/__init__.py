@@ -1,0 +1,1 @@
+"""A wheel with poles that follows a turning field unseen."""

@@ -1,0 +1,247 @@
+"""Points [2] and [3]: wrong arguments, the order of the errors, names, and lists that are nobody's."""
+
+import copy
+import inspect
+import itertools
+import unittest
+
+from poleslips import drives, plays, wheels
+from poleslips.errors import InvalidDrive, InvalidNumber, InvalidPlace, InvalidPull, InvalidTick, InvalidWheel, TooLarge
+from support import HUGE, NO_NUMBERS, SIXTY, WRONG_DRIVES, WRONG_WHEELS, outcome
+
+
+def indexed(kind, wrong):
+    return [(value, (kind, {"index": index})) for value, index in wrong]
+
+
+def plain(kind, *more):
+    return [(value, (kind, {})) for value in NO_NUMBERS + list(more)]
+
+
+WHEEL = indexed(InvalidWheel, WRONG_WHEELS)
+DRIVE = indexed(InvalidDrive, WRONG_DRIVES)
+FIELD = plain(InvalidNumber)
+PLACE = plain(InvalidPlace)
+BEGINNING = plain(InvalidPlace, -201, 200, 400, -HUGE, HUGE)
+PULL = plain(InvalidPull, -1, -20, -HUGE)
+TICK = plain(InvalidTick, -1, -20, -HUGE)
+FROM_0 = plain(InvalidNumber, -1, -20, -HUGE)
+FROM_1 = plain(InvalidNumber, 0, -1, -20, -HUGE)
+COUNT = plain(InvalidNumber, -1, 61, 62, -HUGE, HUGE)
+TURN = plain(InvalidNumber, 0)
+
+LATE_DRIVE = [(2, 1), (4, -1), (9, 3)]
+
+# For each function the names of its arguments, a right value for each, and the wrong ones with their errors.
+CALLS = [
+    (wheels.fore_of, [("wheel", (400, 100), WHEEL)]),
+    (wheels.back_of, [("wheel", (400, 100), WHEEL)]),
+    (wheels.aim_of, [("wheel", (400, 100), WHEEL), ("field", 500, FIELD), ("place", 123, PLACE)]),
+    (wheels.rest_of, [("wheel", (400, 100), WHEEL), ("field", 500, FIELD), ("place", 123, PLACE)]),
+    (wheels.lost_of, [("wheel", (400, 100), WHEEL), ("field", 500, FIELD), ("place", 123, PLACE)]),
+    (wheels.pulled, [
+        ("wheel", (400, 100), WHEEL), ("field", 500, FIELD), ("place", 350, PLACE), ("pull", 20, PULL),
+        ("ticks", 3, FROM_0),
+    ]),
+    (drives.field_at, [("wheel", (400, 100), WHEEL), ("drive", LATE_DRIVE, DRIVE), ("tick", 5, TICK)]),
+    (drives.total_turn, [("drive", LATE_DRIVE, DRIVE)]),
+    (drives.even_drive, [("count", 5, COUNT), ("every", 7, FROM_1), ("turn", -2, TURN)]),
+    (drives.joined, [("one", LATE_DRIVE, DRIVE), ("other", [(3, 1), (4, 5)], DRIVE)]),
+    (drives.delayed, [("drive", LATE_DRIVE, DRIVE), ("by", 3, FROM_0)]),
+    (drives.slowed, [("drive", LATE_DRIVE, DRIVE), ("by", 3, FROM_1)]),
+    (drives.turned_back, [("drive", LATE_DRIVE, DRIVE)]),
+    (plays.play, [
+        ("wheel", (400, 100), WHEEL), ("pull", 20, PULL), ("place", 7, BEGINNING), ("drive", LATE_DRIVE, DRIVE),
+    ]),
+    (plays.slips, [
+        ("wheel", (400, 100), WHEEL), ("pull", 20, PULL), ("place", 7, BEGINNING), ("drive", LATE_DRIVE, DRIVE),
+    ]),
+    (plays.is_kept, [
+        ("wheel", (400, 100), WHEEL), ("pull", 20, PULL), ("place", 7, BEGINNING), ("drive", LATE_DRIVE, DRIVE),
+    ]),
+    (plays.state_at, [
+        ("wheel", (400, 100), WHEEL), ("pull", 20, PULL), ("place", 7, BEGINNING), ("drive", LATE_DRIVE, DRIVE),
+        ("tick", 5, TICK),
+    ]),
+    (plays.stands_from, [
+        ("wheel", (400, 100), WHEEL), ("pull", 20, PULL), ("place", 7, BEGINNING), ("drive", LATE_DRIVE, DRIVE),
+    ]),
+]
+
+
+class Wrong(unittest.TestCase):
+    def check(self, function, names, arguments, error):
+        before = repr(arguments)
+        for by_name in (None, names):
+            told = outcome(function, arguments, by_name)
+            if told != error:
+                self.fail(f"{function.__name__}{tuple(arguments)!r}: {told} in place of {error}")
+        self.assertEqual(repr(arguments), before)
+
+    def test_each_wrong_value_alone(self):
+        for function, parameters in CALLS:
+            names = [name for name, _, _ in parameters]
+            for at, (name, _, wrong) in enumerate(parameters):
+                with self.subTest(function=function.__name__, argument=name):
+                    for value, error in wrong:
+                        arguments = [right for _, right, _ in parameters]
+                        arguments[at] = value
+                        self.check(function, names, arguments, error)
+
+    def test_of_two_wrong_values_the_first_one_counts(self):
+        for function, parameters in CALLS:
+            names = [name for name, _, _ in parameters]
+            for one, other in itertools.combinations(range(len(parameters)), 2):
+                with self.subTest(function=function.__name__, arguments=(names[one], names[other])):
+                    for value, error in parameters[one][2]:
+                        for later, _ in parameters[other][2][::7] + parameters[other][2][-1:]:
+                            arguments = [right for _, right, _ in parameters]
+                            arguments[one], arguments[other] = value, later
+                            self.check(function, names, arguments, error)
+
+    def test_all_values_wrong(self):
+        for function, parameters in CALLS:
+            names = [name for name, _, _ in parameters]
+            with self.subTest(function=function.__name__):
+                for at in range(-5, 5):
+                    arguments = [wrong[at][0] for _, _, wrong in parameters]
+                    self.check(function, names, arguments, parameters[0][2][at][1])
+
+    def test_wrong_drives_of_both_in_joined(self):
+        for value, error in DRIVE:
+            self.check(drives.joined, ["one", "other"], [SIXTY, value], error)
+            self.check(drives.joined, ["one", "other"], [value, SIXTY], error)
+
+    def test_a_drive_is_checked_ahead_of_the_number_of_items(self):
+        later = [(tick + 1, turn) for tick, turn in SIXTY]
+        self.check(drives.joined, ["one", "other"], [SIXTY, later], (TooLarge, {"limit": 60}))
+        broken = later[:59] + [(178, 0)]
+        self.check(drives.joined, ["one", "other"], [SIXTY, broken], (InvalidDrive, {"index": 59}))
+        self.check(drives.joined, ["one", "other"], [broken, SIXTY], (InvalidDrive, {"index": 59}))
+
+    def test_beginning_places_of_wheels(self):
+        for wheel in [(3, 1), (4, 1), (5, 2), (6, 2), (10 ** 29, 1), (10 ** 29 + 1, 7)]:
+            least, greatest = -(wheel[0] // 2), (wheel[0] - 1) // 2
+            for place in (least, least + 1, 0, greatest - 1, greatest):
+                for function in (plays.play, plays.slips):
+                    self.assertEqual(function(wheel, 0, place, []), [])
+                self.assertIs(plays.is_kept(wheel, 0, place, []), True)
+                self.assertEqual(plays.state_at(wheel, 0, place, [], 0), (0, place, 0))
+                self.assertEqual(plays.stands_from(wheel, 0, place, []), 0 if place == 0 else None)
+            for place in (least - 1, greatest + 1, least - wheel[0], greatest + wheel[0], wheel[0]):
+                for function in (plays.play, plays.slips, plays.is_kept, plays.stands_from):
+                    self.assertEqual(outcome(function, [wheel, 0, place, []]), (InvalidPlace, {}))
+                self.assertEqual(outcome(plays.state_at, [wheel, 0, place, [], 0]), (InvalidPlace, {}))
+
+
+class Right(unittest.TestCase):
+    def test_by_position_by_name_and_again(self):
+        for function, parameters in CALLS:
+            with self.subTest(function=function.__name__):
+                arguments = [right for _, right, _ in parameters]
+                by_name = {name: right for name, right, _ in parameters}
+                kept = copy.deepcopy(arguments)
+                first = function(*arguments)
+                self.assertEqual(arguments, kept)
+                self.assertEqual(function(**by_name), first)
+                self.assertEqual(function(**dict(reversed(list(by_name.items())))), first)
+                self.assertEqual(function(*copy.deepcopy(arguments)), first)
+                self.assertEqual(arguments, kept)
+
+    def test_names_and_files(self):
+        for function, parameters in CALLS + [
+            (wheels.is_wheel, [("value", None, None)]), (drives.is_drive, [("value", None, None)]),
+        ]:
+            with self.subTest(function=function.__name__):
+                self.assertTrue(inspect.isfunction(function))
+                self.assertEqual(list(inspect.signature(function).parameters), [name for name, _, _ in parameters])
+        for file, names in [
+            (wheels, ["is_wheel", "fore_of", "back_of", "aim_of", "rest_of", "lost_of", "pulled"]),
+            (drives, [
+                "is_drive", "field_at", "total_turn", "even_drive", "joined", "delayed", "slowed", "turned_back",
+            ]),
+            (plays, ["play", "slips", "is_kept", "state_at", "stands_from"]),
+        ]:
+            for name in names:
+                with self.subTest(file=file.__name__, name=name):
+                    self.assertEqual(getattr(file, name).__module__, file.__name__)
+                    self.assertEqual(getattr(file, name).__name__, name)
+
+
+class Lists(unittest.TestCase):
+    """A returned list is new: neither it nor an argument is kept."""
+
+    MAKERS = [
+        (drives.even_drive, [3, 5, 1]), (drives.even_drive, [0, 1, 1]), (drives.even_drive, [60, 1, 1]),
+        (drives.joined, [LATE_DRIVE, [(3, 1)]]), (drives.joined, [LATE_DRIVE, []]), (drives.joined, [[], LATE_DRIVE]),
+        (drives.joined, [[], []]), (drives.joined, [LATE_DRIVE, LATE_DRIVE]),
+        (drives.joined, [[(1, 1)], [(1, -1)]]),
+        (drives.delayed, [LATE_DRIVE, 3]), (drives.delayed, [LATE_DRIVE, 0]), (drives.delayed, [[], 0]),
+        (drives.slowed, [LATE_DRIVE, 3]), (drives.slowed, [LATE_DRIVE, 1]), (drives.slowed, [[], 1]),
+        (drives.turned_back, [LATE_DRIVE]), (drives.turned_back, [[]]),
+        (plays.play, [(400, 100), 20, 0, LATE_DRIVE]), (plays.play, [(400, 100), 20, 0, []]),
+        (plays.slips, [(400, 100), 20, 0, [(0, 3)]]), (plays.slips, [(400, 100), 20, 0, LATE_DRIVE]),
+        (plays.slips, [(400, 100), 20, 0, []]),
+    ]
+
+    def test_kinds(self):
+        for function, arguments in self.MAKERS:
+            with self.subTest(function=function.__name__, arguments=arguments):
+                answer = function(*copy.deepcopy(arguments))
+                self.assertIs(type(answer), list)
+                for item in answer:
+                    self.assertIs(type(item), tuple)
+                    self.assertEqual([type(number) for number in item], [int] * len(item))
+
+    def test_changing_an_answer_changes_no_later_one(self):
+        for function, arguments in self.MAKERS:
+            with self.subTest(function=function.__name__, arguments=arguments):
+                arguments = copy.deepcopy(arguments)
+                kept = copy.deepcopy(arguments)
+                first = function(*arguments)
+                told = list(first)
+                second = function(*arguments)
+                self.assertIsNot(first, second)
+                first.append(("changed", 1))
+                first.reverse()
+                self.assertEqual((second, arguments), (told, kept))
+                second.clear()
+                self.assertEqual(arguments, kept)
+                self.assertEqual(function(*arguments), told)
+
+    def test_changing_an_argument_changes_no_answer(self):
+        for function, arguments in self.MAKERS:
+            with self.subTest(function=function.__name__, arguments=arguments):
+                arguments = copy.deepcopy(arguments)
+                answer = function(*arguments)
+                told = list(answer)
+                for argument in arguments:
+                    if isinstance(argument, list):
+                        argument.append(("changed", 1))
+                        argument.reverse()
+                self.assertEqual(answer, told)
+
+    def test_an_argument_may_change_between_two_calls(self):
+        drive = [(0, 1)]
+        self.assertEqual((drives.total_turn(drive), drives.field_at((400, 100), drive, 9)), (1, 100))
+        self.assertEqual(plays.play((400, 100), 20, 0, drive), [(0, 0, 0)])
+        self.assertEqual(plays.stands_from((400, 100), 20, 0, drive), 5)
+        drive.append((4, 3))
+        self.assertEqual((drives.total_turn(drive), drives.field_at((400, 100), drive, 9)), (4, 400))
+        self.assertEqual(plays.play((400, 100), 20, 0, drive), [(0, 0, 0), (4, 80, 1)])
+        self.assertEqual(plays.stands_from((400, 100), 20, 0, drive), 8)
+        drive.append((4, 3))
+        self.assertEqual(outcome(drives.total_turn, [drive]), (InvalidDrive, {"index": 2}))
+        self.assertIs(drives.is_drive(drive), False)
+
+    def test_an_error_changes_nothing(self):
+        drive = [(0, 1), (4, 2)]
+        before = drives.delayed(drive, 3)
+        self.assertEqual(outcome(drives.delayed, [drive, -1]), (InvalidNumber, {}))
+        self.assertEqual(outcome(plays.state_at, [(400, 100), 20, 0, drive, -1]), (InvalidTick, {}))
+        self.assertEqual(drive, [(0, 1), (4, 2)])
+        self.assertEqual(drives.delayed(drive, 3), before)
+
+
+if __name__ == "__main__":
+    unittest.main()
