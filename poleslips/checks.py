@@ -1,6 +1,7 @@
 """The checks of arguments that the functions of the package share."""
 
-from poleslips.errors import InvalidDrive, InvalidNumber, InvalidPlace, InvalidPull, InvalidTick, InvalidWheel
+from poleslips.errors import InvalidDrive, InvalidNumber, InvalidPlace, InvalidPull, InvalidStart, InvalidTick
+from poleslips.errors import InvalidWheel
 from poleslips.motion import back_part, fore_part
 
 MOST_ITEMS = 60
@@ -81,7 +82,38 @@ def check_place(place):
         raise InvalidPlace("the place is not an integer")
 
 
+def is_beginning(wheel, value):
+    """Whether a value is a beginning place of the wheel."""
+    return is_number_from(value, -fore_part(wheel)) and value <= back_part(wheel)
+
+
 def check_beginning(wheel, place):
     """Raise InvalidPlace unless the value is a beginning place of the wheel."""
-    if not is_number_from(place, -fore_part(wheel)) or place > back_part(wheel):
+    if not is_beginning(wheel, place):
         raise InvalidPlace("the place is not a beginning place of the wheel")
+
+
+def check_start(wheel, start):
+    """Raise InvalidStart unless the value is a start of the wheel."""
+    if not is_pair(start):
+        raise InvalidStart(None)
+    least, greatest = start
+    if not is_beginning(wheel, least):
+        raise InvalidStart(0)
+    if not is_beginning(wheel, greatest) or greatest < least:
+        raise InvalidStart(1)
+
+
+def check_high(low, high):
+    """Raise InvalidPull unless the value is a pull that is not below the low one."""
+    if not is_number_from(high, low):
+        raise InvalidPull("the high pull is not an integer from the low one on")
+
+
+def check_ways(wheel, low, high, start, drive):
+    """Raise the error of the first of the five arguments that is wrong."""
+    check_wheel(wheel)
+    check_pull(low)
+    check_high(low, high)
+    check_start(wheel, start)
+    check_drive(drive)

@@ -3,6 +3,7 @@
 import contextlib
 import decimal
 import fractions
+import functools
 import signal
 
 HUGE = 10 ** 28  # a number of 29 digits
@@ -48,6 +49,18 @@ WRONG_DRIVES += [([(0, value)], 0) for value in NO_NUMBERS]
 WRONG_DRIVES += [([value], 0) for value in NO_NUMBERS]
 WRONG_DRIVES += [([(0, 1), (value, 1)], 1) for value in NO_NUMBERS]
 
+# Wrong starts of the wheel (400, 100), each with the index of its error.
+WRONG_STARTS = [(value, None) for value in NO_NUMBERS] + [
+    (0, None), ([0, 0], None), ((0,), None), ((0, 0, 0), None), ("ab", None), (b"ab", None), ({0: 1, 1: 1}, None),
+    ({0, 1}, None), (range(2), None), (((0, 0),), None), ([(0, 0)], None), ([None, None], None),
+    ((-201, 0), 0), ((200, 200), 0), ((-201, 200), 0), ((200, 0), 0), ((-HUGE, HUGE), 0), ((HUGE, HUGE), 0),
+    ((None, None), 0), ((True, 300), 0), ((-201, None), 0), ((400, 400), 0),
+    ((0, -1), 1), ((0, 200), 1), ((199, 198), 1), ((-200, -201), 1), ((-200, 200), 1), ((0, -201), 1), ((0, HUGE), 1),
+    ((0, -HUGE), 1), ((5, 4), 1), ((-5, -6), 1),
+]
+WRONG_STARTS += [((value, 0), 0) for value in NO_NUMBERS]
+WRONG_STARTS += [((0, value), 1) for value in NO_NUMBERS]
+
 GOOD_WHEELS = [
     (3, 1), (4, 1), (5, 1), (5, 2), (6, 1), (6, 2), (7, 3), (8, 3), (400, 1), (400, 100), (400, 199), (401, 200),
     (10 ** 29, 1), (10 ** 29, 5 * 10 ** 28 - 1), (10 ** 29 + 1, 5 * 10 ** 28), (10 ** 30 - 1, 5 * 10 ** 29 - 1),
@@ -66,6 +79,7 @@ def beginnings(wheel):
     return range(-(wheel[0] // 2), (wheel[0] - 1) // 2 + 1)
 
 
+@functools.lru_cache(maxsize=100000)
 def nearest(wheel, field, place):
     """The aim, looked for among the places that look like the field."""
     one = field + (place - field) // wheel[0] * wheel[0]
@@ -73,6 +87,7 @@ def nearest(wheel, field, place):
     return min(alike, key=lambda aim: (abs(aim - place), -aim))
 
 
+@functools.lru_cache(maxsize=100000)
 def lost_rounds(wheel, field, place):
     """The rounds lost, from the aim that `nearest` finds."""
     rounds, remainder = divmod(field - nearest(wheel, field, place), wheel[0])
@@ -80,6 +95,7 @@ def lost_rounds(wheel, field, place):
     return rounds
 
 
+@functools.lru_cache(maxsize=100000)
 def pulled_once(wheel, field, place, pull):
     """The place behind one tick with this pull."""
     aim = nearest(wheel, field, place)
@@ -96,6 +112,86 @@ def tick_by_tick(wheel, pull, place, drive, last):
         states.append((field, place, lost_rounds(wheel, field, place)))
         place = pulled_once(wheel, field, place, pull)
     return states
+
+
+def as_few(numbers):
+    """The stretches of some integers, found one by one."""
+    stretches = []
+    for number in sorted(set(numbers)):
+        if stretches and stretches[-1][1] == number - 1:
+            stretches[-1] = stretches[-1][0], number
+        else:
+            stretches.append((number, number))
+    return stretches
+
+
+def all_ways(wheel, low, high, start, drive, last):
+    """What all ways do, tick by tick: (fields, places, kept, firsts).
+
+    For each tick from 0 to the last one the field, and the set of the places; for each item the set of the places of
+    the ways without a slip up to it, and whether it is the first slip of some way.
+    """
+    turns, field, fields, places, kept, firsts = dict(drive), 0, [], [], [], []
+    states = {(place, True) for place in range(start[0], start[1] + 1)}
+    for tick in range(last + 1):
+        if tick in turns:
+            turned = field + turns[tick] * wheel[1]
+            slipping = {place for place, _ in states
+                        if lost_rounds(wheel, field, place) != lost_rounds(wheel, turned, place)}
+            firsts.append(any(clean and place in slipping for place, clean in states))
+            states = {(place, clean and place not in slipping) for place, clean in states}
+            kept.append({place for place, clean in states if clean})
+            field = turned
+        fields.append(field)
+        places.append({place for place, _ in states})
+        states = {(pulled_once(wheel, field, place, pull), clean)
+                  for place, clean in states for pull in range(low, high + 1)}
+    return fields, places, kept, firsts
+
+
+def sources(wheel, field, span, short, long, kept):
+    """The spans of the places from which a place of the span is reached by ways from short to long.
+
+    If kept, only by a wheel whose aim is the field itself.
+    """
+    fore, back, found = wheel[0] // 2, (wheel[0] - 1) // 2, []
+    first, last = nearest(wheel, field, span[0]), nearest(wheel, field, span[1])
+    for aim in range(first, last + 1, wheel[0]):
+        if kept and aim != field:
+            continue
+        least, greatest = max(span[0], aim - fore), min(span[1], aim + back)
+        if least < aim:
+            found.append((max(least - long, aim - fore), min(greatest, aim - 1) - short))
+        if greatest > aim:
+            found.append((max(least, aim + 1) + short, min(greatest + long, aim + back)))
+        if least <= aim <= greatest:
+            found.append((max(aim - long, aim - fore), min(aim + long, aim + back)))
+    return [span for span in found if span[0] <= span[1]]
+
+
+def merged(spans):
+    """Spans with the same places, of which no two overlap."""
+    found = []
+    for least, greatest in sorted(spans):
+        if found and least <= found[-1][1]:
+            found[-1] = found[-1][0], max(found[-1][1], greatest)
+        else:
+            found.append((least, greatest))
+    return found
+
+
+def some_way(wheel, low, high, start, drive, tick, place, kept=False):
+    """Whether some way has the place at the tick, looked for backwards from there.
+
+    If kept, some way without a slip at an item ahead of the tick.
+    """
+    spans, field = [(place, place)], sum(turn for at, turn in drive if at < tick) * wheel[1]
+    for at, turn in [item for item in reversed(drive) if item[0] < tick] + [(0, 0)]:
+        ticks = tick - at
+        spans = merged([one for span in spans for one in sources(wheel, field, span, low * ticks, high * ticks, kept)])
+        field -= turn * wheel[1]
+        tick = at
+    return any(least <= start[1] and greatest >= start[0] for least, greatest in spans)
 
 
 @contextlib.contextmanager

@@ -5,9 +5,11 @@ import inspect
 import itertools
 import unittest
 
-from poleslips import drives, plays, wheels
-from poleslips.errors import InvalidDrive, InvalidNumber, InvalidPlace, InvalidPull, InvalidTick, InvalidWheel, TooLarge
-from support import HUGE, NO_NUMBERS, SIXTY, WRONG_DRIVES, WRONG_WHEELS, outcome
+from poleslips import drives, keeping, losses, places, plays, steady, wheels
+from poleslips.errors import (
+    InvalidDrive, InvalidNumber, InvalidPlace, InvalidPull, InvalidStart, InvalidTick, InvalidWheel, TooLarge,
+)
+from support import HUGE, NO_NUMBERS, SIXTY, WRONG_DRIVES, WRONG_STARTS, WRONG_WHEELS, outcome
 
 
 def indexed(kind, wrong):
@@ -30,7 +32,22 @@ FROM_1 = plain(InvalidNumber, 0, -1, -20, -HUGE)
 COUNT = plain(InvalidNumber, -1, 61, 62, -HUGE, HUGE)
 TURN = plain(InvalidNumber, 0)
 
+LOW = plain(InvalidPull, 31, 400, -1, -20, -HUGE, HUGE)
+HIGH = plain(InvalidPull, 19, 0, -1, -30, -HUGE)
+START = indexed(InvalidStart, WRONG_STARTS)
+INDEX = plain(InvalidNumber, 3, 4, 60, -1, -3, -HUGE, HUGE)
+
 LATE_DRIVE = [(2, 1), (4, -1), (9, 3)]
+
+TWICE = [(0, 2), (10, -1), (12, -1), (13, -1)]
+
+# The arguments that most calls begin with.
+WAYS = [
+    ("wheel", (400, 100), WHEEL), ("low", 20, LOW), ("high", 30, HIGH), ("start", (-7, 12), START),
+    ("drive", LATE_DRIVE, DRIVE),
+]
+KEEPING = [("wheel", (400, 100), WHEEL), ("place", 7, BEGINNING), ("drive", LATE_DRIVE, DRIVE)]
+STEADY = [("wheel", (400, 100), WHEEL), ("pull", 20, PULL), ("every", 4, FROM_1)]
 
 # For each function the names of its arguments, a right value for each, and the wrong ones with their errors.
 CALLS = [
@@ -66,6 +83,20 @@ CALLS = [
     (plays.stands_from, [
         ("wheel", (400, 100), WHEEL), ("pull", 20, PULL), ("place", 7, BEGINNING), ("drive", LATE_DRIVE, DRIVE),
     ]),
+    (steady.first_slip, STEADY + [("place", 7, BEGINNING)]),
+    (steady.least_every, STEADY[:2]),
+    (steady.lost_behind, STEADY + [("place", 7, BEGINNING), ("many", 30, FROM_0)]),
+    (steady.pace, STEADY),
+    (keeping.kept_pulls, KEEPING + [("most", 50, FROM_0)]),
+    (keeping.next_change, KEEPING + [("pull", 3, PULL)]),
+    (places.places, WAYS + [("tick", 6, TICK)]),
+    (places.lost_rounds, WAYS + [("tick", 9, TICK)]),
+    (places.final_places, WAYS),
+    (losses.is_sure, WAYS),
+    (losses.can_keep, WAYS),
+    (losses.first_risk, WAYS),
+    (losses.first_loss, WAYS),
+    (losses.kept_span, WAYS + [("index", 1, INDEX)]),
 ]
 
 
@@ -134,6 +165,57 @@ class Wrong(unittest.TestCase):
                 self.assertEqual(outcome(plays.state_at, [wheel, 0, place, [], 0]), (InvalidPlace, {}))
 
 
+    def test_beginning_places_of_equal_steps_and_of_pulls_that_keep(self):
+        for wheel in [(3, 1), (4, 1), (5, 2), (6, 2), (10 ** 29, 1), (10 ** 29 + 1, 7)]:
+            least, greatest = -(wheel[0] // 2), (wheel[0] - 1) // 2
+            for place in (least, 0, greatest):
+                self.assertEqual(keeping.kept_pulls(wheel, place, [], 5), [(0, 5)])
+                self.assertIsNone(keeping.next_change(wheel, place, [], 5))
+                self.assertEqual(steady.first_slip(wheel, wheel[1], 1, place), 0 if place == least else None)
+                if wheel[0] < 10:
+                    self.assertEqual(steady.lost_behind(wheel, 0, 1, place, 0), 0)
+            for place in (least - 1, greatest + 1, least - wheel[0], greatest + wheel[0], wheel[0]):
+                for function, arguments in [
+                    (keeping.kept_pulls, [wheel, place, [], 5]), (keeping.next_change, [wheel, place, [], 5]),
+                    (steady.first_slip, [wheel, 1, 1, place]), (steady.lost_behind, [wheel, 1, 1, place, 1]),
+                ]:
+                    self.assertEqual(outcome(function, arguments), (InvalidPlace, {}))
+
+    def each_of_ways(self):
+        for function, parameters in CALLS:
+            if parameters[:5] == WAYS:
+                yield function, [right for _, right, _ in parameters[5:]]
+
+    def test_starts_of_wheels(self):
+        for function, more in self.each_of_ways():
+            for wheel in [(3, 1), (4, 1), (5, 2), (6, 2), (10 ** 29, 1), (10 ** 29 + 1, 7)]:
+                least, greatest = -(wheel[0] // 2), (wheel[0] - 1) // 2
+                some = [(least, least), (least, greatest), (0, 0), (greatest, greatest), (greatest - 1, greatest)]
+                for start in some:
+                    kind = outcome(function, [wheel, 1, 2, start, LATE_DRIVE] + more)[0]
+                    self.assertEqual(kind, "returned", (function.__name__, wheel, start))
+                for start, index in [
+                    ((least - 1, 0), 0), ((greatest + 1, greatest + 1), 0), ((wheel[0], wheel[0]), 0),
+                    ((greatest, greatest + 1), 1), ((least, least - 1), 1), ((greatest, greatest - 1), 1),
+                    ((0, wheel[0]), 1), ((least - 1, greatest + 1), 0),
+                ]:
+                    told = outcome(function, [wheel, 1, 2, start, LATE_DRIVE] + more)
+                    self.assertEqual(told, (InvalidStart, {"index": index}), (function.__name__, wheel, start))
+
+    def test_high_below_low(self):
+        for function, more in self.each_of_ways():
+            for low, high, right in [(0, 0, True), (5, 5, True), (5, 4, False), (1, 0, False), (0, HUGE, True),
+                                     (HUGE, HUGE, True), (HUGE, HUGE - 1, False)]:
+                told = outcome(function, [(400, 100), low, high, (0, 0), LATE_DRIVE] + more)
+                self.assertEqual(told[0], "returned" if right else InvalidPull, (function.__name__, low, high))
+
+    def test_the_index_of_an_item(self):
+        for drive in ([], [(0, 1)], LATE_DRIVE, SIXTY):
+            for index in (-1, 0, 1, 2, 3, 59, 60):
+                told = outcome(losses.kept_span, [(400, 100), 20, 30, (0, 0), drive, index])
+                self.assertEqual(told[0], "returned" if 0 <= index < len(drive) else InvalidNumber, (drive, index))
+
+
 class Right(unittest.TestCase):
     def test_by_position_by_name_and_again(self):
         for function, parameters in CALLS:
@@ -161,6 +243,10 @@ class Right(unittest.TestCase):
                 "is_drive", "field_at", "total_turn", "even_drive", "joined", "delayed", "slowed", "turned_back",
             ]),
             (plays, ["play", "slips", "is_kept", "state_at", "stands_from"]),
+            (steady, ["first_slip", "least_every", "lost_behind", "pace"]),
+            (keeping, ["kept_pulls", "next_change"]),
+            (places, ["places", "lost_rounds", "final_places"]),
+            (losses, ["is_sure", "can_keep", "first_risk", "first_loss", "kept_span"]),
         ]:
             for name in names:
                 with self.subTest(file=file.__name__, name=name):
@@ -182,6 +268,15 @@ class Lists(unittest.TestCase):
         (plays.play, [(400, 100), 20, 0, LATE_DRIVE]), (plays.play, [(400, 100), 20, 0, []]),
         (plays.slips, [(400, 100), 20, 0, [(0, 3)]]), (plays.slips, [(400, 100), 20, 0, LATE_DRIVE]),
         (plays.slips, [(400, 100), 20, 0, []]),
+        (keeping.kept_pulls, [(400, 100), 0, LATE_DRIVE, 100]), (keeping.kept_pulls, [(400, 100), 0, [], 100]),
+        (keeping.kept_pulls, [(400, 100), 0, [(0, 3)], 100]), (keeping.kept_pulls, [(400, 100), 0, TWICE, 100]),
+    ] + [
+        (function, [(400, 100), 20, 30, start, drive] + more)
+        for start in ((0, 0), (-7, 12)) for drive in (LATE_DRIVE, [(0, 2), (4, 1)], [])
+        for function, more in (
+            (places.places, [0]), (places.places, [5]), (places.places, [HUGE]), (places.lost_rounds, [0]),
+            (places.lost_rounds, [5]), (places.final_places, []),
+        )
     ]
 
     def test_kinds(self):
@@ -190,6 +285,8 @@ class Lists(unittest.TestCase):
                 answer = function(*copy.deepcopy(arguments))
                 self.assertIs(type(answer), list)
                 for item in answer:
+                    if function in (places.lost_rounds, places.final_places):
+                        item = (item,)
                     self.assertIs(type(item), tuple)
                     self.assertEqual([type(number) for number in item], [int] * len(item))
 

@@ -62,6 +62,67 @@ EXAMPLES = {
 >>> [stands_from(wheel, 7, -150, []), stands_from(wheel, 0, -150, []), stands_from(wheel, 0, 0, [])]
 [22, None, 0]
 """,
+    16: """
+>>> from poleslips.steady import first_slip
+>>> wheel = (400, 100)
+>>> [first_slip(wheel, 20, 4, place) for place in (0, 199, -200)]
+[6, 7, 0]
+>>> [first_slip(wheel, 25, 4, 0), first_slip((10 ** 29, 2), 1, 1, 0)]
+[None, 49999999999999999999999999999]
+
+>>> from poleslips.steady import least_every
+>>> [least_every((400, 100), pull) for pull in (20, 30, 100, 0)]
+[5, 4, 1, None]
+""",
+    17: """
+>>> from poleslips.steady import lost_behind
+>>> [lost_behind((400, 100), 20, 4, 0, many) for many in (0, 6, 7, 14, 15, 10 ** 20)]
+[0, 0, 1, 1, 2, 12500000000000000000]
+
+>>> from poleslips.steady import pace
+>>> [pace((400, 100), 20, 4), pace((400, 100), 25, 4), pace((400, 100), 0, 1)]
+[(1, 8), (0, 1), (1, 4)]
+""",
+    18: """
+>>> from poleslips.keeping import kept_pulls
+>>> wheel = (400, 100)
+>>> [kept_pulls(wheel, 0, [(0, 1), (3, 1), (5, 1), (9, 1)], 100), kept_pulls(wheel, 0, [(0, 2), (10, -2)], 50)]
+[[(23, 100)], [(0, 19)]]
+>>> kept_pulls(wheel, 0, [(0, 2), (10, -1), (12, -1), (13, -1)], 100)
+[(0, 14), (34, 100)]
+
+>>> from poleslips.keeping import next_change
+>>> drive = [(0, 2), (10, -1), (12, -1), (13, -1)]
+>>> [next_change((400, 100), 0, drive, pull) for pull in (0, 14, 15, 34)]
+[15, 15, 34, None]
+""",
+    19: """
+>>> from poleslips.places import lost_rounds, places
+>>> wheel, drive = (400, 100), [(0, 2), (4, 1)]
+>>> [places(wheel, 20, 30, (0, 0), drive, tick) for tick in (0, 4, 5, 40)]
+[[(0, 0)], [(80, 120)], [(50, 79), (120, 150)], [(-100, -100), (300, 300)]]
+>>> [lost_rounds(wheel, 20, 30, (0, 0), drive, tick) for tick in (3, 4)]
+[[0], [0, 1]]
+""",
+    20: """
+>>> from poleslips.places import final_places
+>>> wheel, drive = (400, 100), [(0, 2), (4, 1)]
+>>> [final_places(wheel, 20, 30, (0, 0), drive), final_places(wheel, 25, 30, (0, 0), drive), final_places(wheel, 5, 5, (-9, 9), [])]
+[[-100, 300], [300], [0]]
+""",
+    21: """
+>>> from poleslips.losses import can_keep, first_loss, first_risk, is_sure
+>>> wheel, drive, some = (400, 100), [(0, 2), (4, 1)], [(25, 30), (20, 30), (10, 20)]
+>>> [(is_sure(wheel, low, high, (0, 0), drive), can_keep(wheel, low, high, (0, 0), drive)) for low, high in some]
+[(True, True), (False, True), (False, False)]
+>>> [(first_risk(wheel, low, high, (0, 0), drive), first_loss(wheel, low, high, (0, 0), drive)) for low, high in some]
+[(None, None), (1, None), (1, 1)]
+
+>>> from poleslips.losses import kept_span
+>>> wheel, drive = (400, 100), [(0, 2), (4, 1)]
+>>> [kept_span(wheel, 20, 30, (0, 0), drive, 1), kept_span(wheel, 10, 20, (0, 0), drive, 1), kept_span(wheel, 10, 20, (0, 0), drive, 0)]
+[(100, 120), None, (0, 0)]
+""",
 }
 
 
