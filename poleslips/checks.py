@@ -1,10 +1,11 @@
 """The checks of arguments that the functions of the package share."""
 
-from poleslips.errors import InvalidDrive, InvalidNumber, InvalidPlace, InvalidPull, InvalidStart, InvalidTick
-from poleslips.errors import InvalidWheel
+from poleslips.errors import InvalidDrive, InvalidLoads, InvalidNumber, InvalidPlace, InvalidPull, InvalidStart
+from poleslips.errors import InvalidTick, InvalidWheel
 from poleslips.motion import back_part, fore_part
 
 MOST_ITEMS = 60
+MOST_LOADS = 400
 
 
 def is_number(value):
@@ -41,15 +42,32 @@ def is_item(value, least_tick):
     return is_number_from(tick, least_tick) and is_number(turn) and turn != 0
 
 
-def check_drive(drive):
-    """Raise InvalidDrive unless the value is a drive."""
+def check_drive(drive, ahead=False):
+    """Raise InvalidDrive unless the value is a drive, and all of its turns are ahead if this is asked for."""
     if not isinstance(drive, list) or len(drive) > MOST_ITEMS:
         raise InvalidDrive(None)
     least_tick = 0
     for index, item in enumerate(drive):
-        if not is_item(item, least_tick):
+        if not is_item(item, least_tick) or (ahead and item[1] < 1):
             raise InvalidDrive(index)
         least_tick = item[0] + 1
+
+
+def is_load(value):
+    """Whether a value is a tuple of a loads list."""
+    if not is_pair(value):
+        return False
+    pull, ticks = value
+    return is_number_from(pull, 0) and is_number_from(ticks, 1)
+
+
+def check_loads(loads):
+    """Raise InvalidLoads unless the value is a loads list."""
+    if not isinstance(loads, list) or len(loads) > MOST_LOADS:
+        raise InvalidLoads(None)
+    for index, load in enumerate(loads):
+        if not is_load(load):
+            raise InvalidLoads(index)
 
 
 def check_number(value):
@@ -64,10 +82,21 @@ def check_number_from(value, least):
         raise InvalidNumber(f"the number is not an integer from {least} on")
 
 
+def check_number_between(value, least, most):
+    """Raise InvalidNumber unless the value is an integer from the least to the greatest one."""
+    if not is_number_from(value, least) or value > most:
+        raise InvalidNumber(f"the number is not an integer from {least} to {most}")
+
+
 def check_pull(pull):
     """Raise InvalidPull unless the value is a pull."""
-    if not is_number_from(pull, 0):
-        raise InvalidPull("the pull is not an integer from 0 on")
+    check_pull_from(pull, 0)
+
+
+def check_pull_from(pull, least):
+    """Raise InvalidPull unless the value is a pull from the least one on."""
+    if not is_number_from(pull, least):
+        raise InvalidPull("the pull is not an integer, or it is too low")
 
 
 def check_tick(tick):
@@ -104,16 +133,10 @@ def check_start(wheel, start):
         raise InvalidStart(1)
 
 
-def check_high(low, high):
-    """Raise InvalidPull unless the value is a pull that is not below the low one."""
-    if not is_number_from(high, low):
-        raise InvalidPull("the high pull is not an integer from the low one on")
-
-
 def check_ways(wheel, low, high, start, drive):
     """Raise the error of the first of the five arguments that is wrong."""
     check_wheel(wheel)
     check_pull(low)
-    check_high(low, high)
+    check_pull_from(high, low)
     check_start(wheel, start)
     check_drive(drive)

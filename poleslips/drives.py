@@ -1,6 +1,7 @@
 """Drives: lists of turns of the field, and ways to make new ones."""
 
-from poleslips.checks import MOST_ITEMS, check_drive, check_number, check_number_from, check_tick, check_wheel
+from poleslips.checks import MOST_ITEMS, check_drive, check_number, check_number_between, check_number_from
+from poleslips.checks import check_tick, check_wheel
 from poleslips.errors import InvalidDrive, InvalidNumber, TooLarge
 
 
@@ -29,9 +30,7 @@ def total_turn(drive):
 
 def even_drive(count, every, turn):
     """The drive of so many equal turns, one each `every` ticks from tick 0 on."""
-    check_number_from(count, 0)
-    if count > MOST_ITEMS:
-        raise InvalidNumber(f"a drive has at most {MOST_ITEMS} items")
+    check_number_between(count, 0, MOST_ITEMS)
     check_number_from(every, 1)
     check_number(turn)
     if turn == 0:
@@ -39,14 +38,19 @@ def even_drive(count, every, turn):
     return [(index * every, turn) for index in range(count)]
 
 
+def summed(items):
+    """The items by ascending ticks; turns at the same tick add up, and none is 0."""
+    turns = {}
+    for tick, turn in items:
+        turns[tick] = turns.get(tick, 0) + turn
+    return [(tick, turns[tick]) for tick in sorted(turns) if turns[tick] != 0]
+
+
 def joined(one, other):
     """The drive with the items of both; turns at the same tick add up."""
     check_drive(one)
     check_drive(other)
-    turns = {}
-    for tick, turn in one + other:
-        turns[tick] = turns.get(tick, 0) + turn
-    items = [(tick, turns[tick]) for tick in sorted(turns) if turns[tick] != 0]
+    items = summed(one + other)
     if len(items) > MOST_ITEMS:
         raise TooLarge(MOST_ITEMS)
     return items

@@ -38,3 +38,14 @@ def moved(wheel, field, place, pull, ticks):
     if rest > 0:
         return place + way
     return place - way
+
+
+def ticks_to_aim(wheel, field, place, pull):
+    """How many ticks with this pull bring the wheel to its aim in a field that stays, None if none do."""
+    way = abs(rest_at(wheel, field, place))
+    if way == 0:
+        return 0
+    if pull == 0:
+        return None
+    # The last pull may be a part of one: the pulls are counted rounded up.
+    return (way + pull - 1) // pull

@@ -1,7 +1,7 @@
 """Plays: a wheel that has the same pull in each tick of a drive."""
 
 from poleslips.checks import check_beginning, check_drive, check_pull, check_tick, check_wheel
-from poleslips.motion import lost_at, moved, rest_at
+from poleslips.motion import lost_at, moved, ticks_to_aim
 
 
 def check_play(wheel, pull, place, drive):
@@ -60,10 +60,5 @@ def stands_from(wheel, pull, place, drive):
     """The least tick, not ahead of the last item, from which on the wheel stands."""
     check_play(wheel, pull, place, drive)
     now, field, here = marks_of(wheel, pull, place, drive)[-1]
-    way = abs(rest_at(wheel, field, here))
-    if way == 0:
-        return now
-    if pull == 0:
-        return None
-    # The last pull may be a part of one: the pulls are counted rounded up.
-    return now + (way + pull - 1) // pull
+    ticks = ticks_to_aim(wheel, field, here, pull)
+    return None if ticks is None else now + ticks

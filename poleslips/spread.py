@@ -41,12 +41,59 @@ def drawn(aim, span, short, long):
     return least, greatest
 
 
-def spread(wheel, field, stretches, short, long):
-    """The stretches of all places behind ways from short to long in a field that stays."""
+def parts_by_aim(wheel, field, stretches):
+    """The tuples (aim, span) of the parts of stretches that have the same aim each."""
     fore, back = fore_part(wheel), back_part(wheel)
-    spans = []
+    parts = []
     for span in stretches:
         for aim in aims_of_span(wheel, field, span):
-            part = max(span[0], aim - fore), min(span[1], aim + back)
-            spans.append(drawn(aim, part, short, long))
-    return as_stretches(spans)
+            parts.append((aim, (max(span[0], aim - fore), min(span[1], aim + back))))
+    return parts
+
+
+def spread(wheel, field, stretches, short, long):
+    """The stretches of all places behind ways from short to long in a field that stays."""
+    parts = parts_by_aim(wheel, field, stretches)
+    return as_stretches([drawn(aim, span, short, long) for aim, span in parts])
+
+
+def drawn_back(wheel, aim, span, short, long):
+    """The span of all places that ways from short to long bring into a span of places with this aim.
+
+    Its least place is above its greatest one if there are none.
+    """
+    least, greatest = span
+    # A place at its aim comes from both sides, any other one from its own side alone.
+    if least > aim:
+        least = least + short
+    else:
+        least = max(least - long, aim - fore_part(wheel))
+    if greatest < aim:
+        greatest = greatest - short
+    else:
+        greatest = min(greatest + long, aim + back_part(wheel))
+    return least, greatest
+
+
+def spread_back(wheel, field, stretches, short, long):
+    """The stretches of all places that some ways from short to long bring into the stretches."""
+    parts = parts_by_aim(wheel, field, stretches)
+    spans = [drawn_back(wheel, aim, span, short, long) for aim, span in parts]
+    return as_stretches([span for span in spans if span[0] <= span[1]])
+
+
+def shared(one, other):
+    """The stretches of the integers that two lists of stretches have in common."""
+    found = []
+    first = second = 0
+    while first < len(one) and second < len(other):
+        least = max(one[first][0], other[second][0])
+        greatest = min(one[first][1], other[second][1])
+        if least <= greatest:
+            found.append((least, greatest))
+        # The stretch that ends first has nothing in common with what follows in the other list.
+        if one[first][1] < other[second][1]:
+            first += 1
+        else:
+            second += 1
+    return found

@@ -61,6 +61,54 @@ WRONG_STARTS = [(value, None) for value in NO_NUMBERS] + [
 WRONG_STARTS += [((value, 0), 0) for value in NO_NUMBERS]
 WRONG_STARTS += [((0, value), 1) for value in NO_NUMBERS]
 
+LOADS_400 = [(number % 5, 1 + number % 3) for number in range(400)]
+
+# Wrong loads lists, each with the index of its error.
+WRONG_LOADS = [(value, None) for value in NO_NUMBERS if not isinstance(value, list)] + [
+    (((0, 1),), None), ((0, 1), None), ("ab", None), ({0: 1}, None), (0, None), (LOADS_400 + [(0, 1)], None),
+    (tuple(LOADS_400), None), ([None] * 401, None), (iter([(0, 1)]), None),
+    ([[0, 1]], 0), ([()], 0), ([(0,)], 0), ([(0, 1, 1)], 0), ([0], 0), (["ab"], 0), ([[]], 0), ([((0, 1),)], 0),
+    ([(-1, 1)], 0), ([(-HUGE, 1)], 0), ([(0, 0)], 0), ([(0, -1)], 0), ([(5, -HUGE)], 0), ([(0, 1), None], 1),
+    ([(0, 1), [1, 1]], 1), ([(0, 1), (1, 0)], 1), ([(0, 1), (-1, 1)], 1), ([(0, 1), (1,)], 1),
+    ([(1, 1), (2, 0), (-3, 1), (3, 1)], 1), ([(0, 1), (True, 1)], 1), ([(0, 1), (1, True)], 1),
+    ([(0, 1), (4, 1), (2, 1, 1), (9, 1)], 2), (LOADS_400[:399] + [(0, 0)], 399), (LOADS_400[:399] + [None], 399),
+    ([None] * 400, 0),
+]
+WRONG_LOADS += [([(value, 1)], 0) for value in NO_NUMBERS]
+WRONG_LOADS += [([(0, value)], 0) for value in NO_NUMBERS]
+WRONG_LOADS += [([value], 0) for value in NO_NUMBERS]
+WRONG_LOADS += [([(0, 1), (value, 1)], 1) for value in NO_NUMBERS]
+
+SIXTY_SEEN = [(2 * number, -HUGE, HUGE) for number in range(60)]
+
+# Wrong sightings, each with the index of its error.
+WRONG_SIGHTINGS = [(value, None) for value in NO_NUMBERS if not isinstance(value, list)] + [
+    (((0, 1, 2),), None), ((0, 1, 2), None), ("abc", None), ({0: 1}, None), (0, None),
+    (SIXTY_SEEN + [(120, 0, 0)], None), (tuple(SIXTY_SEEN), None), ([None] * 61, None),
+    ([[0, 1, 2]], 0), ([()], 0), ([(0,)], 0), ([(0, 1)], 0), ([(0, 1, 2, 3)], 0), ([0], 0), (["abc"], 0), ([[]], 0),
+    ([((0, 1, 2),)], 0), ([(-1, 0, 0)], 0), ([(-HUGE, 0, 0)], 0), ([(0, 1, 0)], 0), ([(0, HUGE, -HUGE)], 0),
+    ([(0, 0, 0), None], 1), ([(0, 0, 0), [1, 1, 1]], 1), ([(0, 0, 0), (0, 0, 0)], 1), ([(5, 0, 0), (4, 0, 0)], 1),
+    ([(0, 0, 0), (1, 0, -1)], 1), ([(0, 0, 0), (-1, 0, 0)], 1), ([(0, 0, 0), (1, 0)], 1),
+    ([(0, 0, 0), (True, 0, 0)], 1), ([(0, 0, 0), (1, False, 0)], 1), ([(0, 0, 0), (1, 0, False)], 1),
+    ([(5, 0, 0), (5, 0, 0), None], 1), ([(0, 0, 0), (4, 0, 0), (3, 0, 0)], 2), ([(0, 0, 0), (9, 1, 0), (3, 0, 0)], 1),
+    (SIXTY_SEEN[:59] + [(118, 1, 0)], 59), (SIXTY_SEEN[:59] + [(116, 0, 0)], 59), (SIXTY_SEEN[:59] + [None], 59),
+    ([None] * 60, 0),
+]
+WRONG_SIGHTINGS += [([(value, 0, 0)], 0) for value in NO_NUMBERS]
+WRONG_SIGHTINGS += [([(0, value, 5)], 0) for value in NO_NUMBERS]
+WRONG_SIGHTINGS += [([(0, -5, value)], 0) for value in NO_NUMBERS]
+WRONG_SIGHTINGS += [([value], 0) for value in NO_NUMBERS]
+
+# Wrong spans, each with the index of its error.
+WRONG_SPANS = [(value, None) for value in NO_NUMBERS] + [
+    (0, None), ([0, 0], None), ((0,), None), ((0, 0, 0), None), ("ab", None), (b"ab", None), ({0: 1, 1: 1}, None),
+    ({0, 1}, None), (range(2), None), (((0, 0),), None), ([(0, 0)], None), ([None, None], None),
+    ((None, None), 0), ((True, 300), 0), ((None, -HUGE), 0), ((0, -1), 1), ((5, 4), 1), ((-5, -6), 1), ((0, -HUGE), 1),
+    ((HUGE, HUGE - 1), 1),
+]
+WRONG_SPANS += [((value, 0), 0) for value in NO_NUMBERS]
+WRONG_SPANS += [((0, value), 1) for value in NO_NUMBERS]
+
 GOOD_WHEELS = [
     (3, 1), (4, 1), (5, 1), (5, 2), (6, 1), (6, 2), (7, 3), (8, 3), (400, 1), (400, 100), (400, 199), (401, 200),
     (10 ** 29, 1), (10 ** 29, 5 * 10 ** 28 - 1), (10 ** 29 + 1, 5 * 10 ** 28), (10 ** 30 - 1, 5 * 10 ** 29 - 1),
@@ -112,6 +160,64 @@ def tick_by_tick(wheel, pull, place, drive, last):
         states.append((field, place, lost_rounds(wheel, field, place)))
         place = pulled_once(wheel, field, place, pull)
     return states
+
+
+def pulls_of(loads):
+    """The pulls of a loads list, one for each tick."""
+    return [pull for pull, ticks in loads for _ in range(ticks)]
+
+
+def with_pulls(wheel, pulls, place, drive, last):
+    """As `tick_by_tick`, with these pulls one behind the other and the pull 0 behind them."""
+    turns, field, states = dict(drive), 0, []
+    for tick in range(last + 1):
+        field += turns.get(tick, 0) * wheel[1]
+        states.append((field, place, lost_rounds(wheel, field, place)))
+        place = pulled_once(wheel, field, place, pulls[tick] if tick < len(pulls) else 0)
+    return states
+
+
+def walk(wheel, loads, place, drive, last):
+    """The place at the last tick with a loads list, and whether there was a slip up to it, from event to event.
+
+    For numbers of any size: all places on the way to an aim have this aim.
+    """
+    begins = [sum(ticks for _, ticks in loads[:index]) for index in range(len(loads) + 1)]
+    events = sorted({0, last} | {at for at in begins if at < last} | {at for at, _ in drive if at <= last})
+    turns, pulls = dict(drive), dict(zip(begins, [pull for pull, _ in loads] + [0]))
+    field = now = pull = 0
+    slipped = False
+    for tick in events:
+        aim, way = nearest(wheel, field, place), pull * (tick - now)
+        place = aim if abs(aim - place) <= way else place + (way if aim > place else -way)
+        now, pull = tick, pulls.get(tick, pull)
+        before = lost_rounds(wheel, field, place)
+        field += turns.get(tick, 0) * wheel[1]
+        slipped = slipped or lost_rounds(wheel, field, place) != before
+    return place, slipped
+
+
+def seen_ways(wheel, low, high, start, drive, sightings, last):
+    """What the ways with all sightings do: the index of the first misfit, and for each tick the set of the places."""
+    turns = dict(drive)
+    seen = {tick: (index, least, greatest) for index, (tick, least, greatest) in enumerate(sightings)}
+    field, fields, sets, misfit = 0, [], [], None
+    now = set(range(start[0], start[1] + 1))
+    for tick in range(last + 1):
+        if tick in seen:
+            index, least, greatest = seen[tick]
+            now = {place for place in now if least <= place <= greatest}
+            if not now and misfit is None:
+                misfit = index
+        field += turns.get(tick, 0) * wheel[1]
+        fields.append(field)
+        sets.append(now)
+        now = {pulled_once(wheel, field, place, pull) for place in now for pull in range(low, high + 1)}
+    for tick in range(last - 1, -1, -1):
+        sets[tick] = {place for place in sets[tick]
+                      if any(pulled_once(wheel, fields[tick], place, pull) in sets[tick + 1]
+                             for pull in range(low, high + 1))}
+    return misfit, sets
 
 
 def as_few(numbers):
@@ -217,5 +323,5 @@ def outcome(function, arguments, names=None):
         else:
             answer = function(**dict(zip(names, arguments)))
     except Exception as error:
-        return type(error), {name: getattr(error, name) for name in ("index", "limit") if hasattr(error, name)}
+        return type(error), {name: getattr(error, name) for name in ("index", "limit", "word") if hasattr(error, name)}
     return "returned", answer

@@ -5,11 +5,16 @@ import inspect
 import itertools
 import unittest
 
-from poleslips import drives, keeping, losses, places, plays, steady, wheels
+from poleslips import console, live, texts
+from poleslips import drives, keeping, losses, papers, places, plays, quickest, sightings, slack, steady, stops, wheels
 from poleslips.errors import (
-    InvalidDrive, InvalidNumber, InvalidPlace, InvalidPull, InvalidStart, InvalidTick, InvalidWheel, TooLarge,
+    Impossible, InvalidDrive, InvalidLoads, InvalidNumber, InvalidPlace, InvalidPull, InvalidSightings, InvalidStart,
+    InvalidTick, InvalidWheel, TooLarge,
 )
-from support import HUGE, NO_NUMBERS, SIXTY, WRONG_DRIVES, WRONG_STARTS, WRONG_WHEELS, outcome
+from support import (
+    HUGE, LOADS_400, NO_NUMBERS, SIXTY, SIXTY_SEEN, WRONG_DRIVES, WRONG_LOADS, WRONG_SIGHTINGS, WRONG_SPANS,
+    WRONG_STARTS, WRONG_WHEELS, outcome,
+)
 
 
 def indexed(kind, wrong):
@@ -37,7 +42,34 @@ HIGH = plain(InvalidPull, 19, 0, -1, -30, -HUGE)
 START = indexed(InvalidStart, WRONG_STARTS)
 INDEX = plain(InvalidNumber, 3, 4, 60, -1, -3, -HUGE, HUGE)
 
+LOADS = indexed(InvalidLoads, WRONG_LOADS)
+SIGHTINGS = indexed(InvalidSightings, WRONG_SIGHTINGS)
+SPAN = indexed(InvalidStart, WRONG_SPANS)
+LOW_FROM_0 = plain(InvalidPull, -1, -20, -HUGE)
+LOW_FROM_1 = plain(InvalidPull, 0, -1, -20, -HUGE)
+LOW_OF_HOME = plain(InvalidPull, 0, 31, 400, -1, -20, -HUGE, HUGE)
+STEPS = plain(InvalidNumber, -1, 61, 62, -HUGE, HUGE)
+MOST = plain(InvalidNumber, -1, 401, 402, -HUGE, HUGE)
+# Stops that are above the place -7, or no integers.
+STOP = plain(InvalidPlace, -6, 0, 5, HUGE)
+
+
+def first_back(drive, index):
+    """The index of the first item up to the wrong one whose turn is not ahead."""
+    return next((at for at, item in enumerate(drive[:index]) if item[1] < 1), index)
+
+
+# Wrong drives where all turns are ahead.
+AHEAD = indexed(InvalidDrive, [
+    (value, index if index is None else first_back(value, index)) for value, index in WRONG_DRIVES
+] + [
+    ([(0, -1)], 0), ([(0, 1), (4, -1)], 1), ([(0, 1), (4, -1), None], 1), ([(0, 1), None, (4, -1)], 1),
+    ([(0, -1), (0, 1)], 0), ([(0, 1), (5, 2), (9, -HUGE)], 2), (SIXTY, 0),
+])
+
 LATE_DRIVE = [(2, 1), (4, -1), (9, 3)]
+AHEAD_DRIVE = [(2, 1), (14, 1), (29, 1)]
+SEEN = [(2, -7, 12), (4, -400, 400)]
 
 TWICE = [(0, 2), (10, -1), (12, -1), (13, -1)]
 
@@ -48,6 +80,14 @@ WAYS = [
 ]
 KEEPING = [("wheel", (400, 100), WHEEL), ("place", 7, BEGINNING), ("drive", LATE_DRIVE, DRIVE)]
 STEADY = [("wheel", (400, 100), WHEEL), ("pull", 20, PULL), ("every", 4, FROM_1)]
+QUICKEST = [("wheel", (400, 100), WHEEL), ("low", 20, LOW_FROM_1), ("place", 7, BEGINNING)]
+SLACK = [("wheel", (400, 100), WHEEL), ("low", 20, LOW_FROM_0), ("drive", AHEAD_DRIVE, AHEAD)]
+SIGHTED = WAYS + [("sightings", SEEN, SIGHTINGS)]
+HOME = [
+    ("wheel", (400, 100), WHEEL), ("low", 20, LOW_OF_HOME), ("high", 30, HIGH), ("span", (-7, 12), SPAN),
+    ("stop", -7, STOP),
+]
+VALUE = ("value", (0, []), [])
 
 # For each function the names of its arguments, a right value for each, and the wrong ones with their errors.
 CALLS = [
@@ -97,6 +137,38 @@ CALLS = [
     (losses.first_risk, WAYS),
     (losses.first_loss, WAYS),
     (losses.kept_span, WAYS + [("index", 1, INDEX)]),
+    (papers.play_loads, [
+        ("wheel", (400, 100), WHEEL), ("loads", [(20, 4), (30, 1)], LOADS), ("place", 7, BEGINNING),
+        ("drive", LATE_DRIVE, DRIVE),
+    ]),
+    (papers.slip_paper, WAYS),
+    (papers.keep_paper, WAYS),
+    (papers.place_paper, WAYS + [("tick", 6, TICK), ("place", 40, PLACE)]),
+    (papers.shows_slip, WAYS + [VALUE]),
+    (papers.shows_keep, WAYS + [VALUE]),
+    (papers.shows_place, WAYS + [("tick", 6, TICK), ("place", 40, PLACE), VALUE]),
+    (quickest.steps_by, QUICKEST + [("tick", 9, TICK)]),
+    (quickest.quickest_tick, QUICKEST + [("index", 9, FROM_0)]),
+    (quickest.quickest_drive, QUICKEST + [("steps", 9, STEPS)]),
+    (quickest.settled_tick, QUICKEST + [("steps", 9, STEPS)]),
+    (slack.slack, SLACK),
+    (slack.late_drive, SLACK + [("by", 9, FROM_0)]),
+    (slack.shows_late, SLACK + [("by", 9, FROM_0), VALUE]),
+    (sightings.fits, SIGHTED),
+    (sightings.first_misfit, SIGHTED),
+    (sightings.places_seen, SIGHTED + [("tick", 3, TICK)]),
+    (sightings.sight_paper, SIGHTED),
+    (sightings.shows_sights, SIGHTED + [VALUE]),
+    (stops.play_stop, [
+        ("wheel", (400, 100), WHEEL), ("pull", 20, PULL), ("place", -7, PLACE), ("stop", -7, STOP),
+        ("drive", LATE_DRIVE, DRIVE),
+    ]),
+    (stops.stop_places, [
+        ("wheel", (400, 100), WHEEL), ("low", 20, LOW), ("high", 30, HIGH), ("span", (-7, 12), SPAN),
+        ("stop", -7, STOP), ("drive", LATE_DRIVE, DRIVE), ("tick", 6, TICK),
+    ]),
+    (stops.home_steps, HOME + [("every", 4, FROM_1), ("most", 60, MOST)]),
+    (stops.home_place, HOME + [("every", 4, FROM_1), ("most", 60, MOST)]),
 ]
 
 
@@ -135,7 +207,7 @@ class Wrong(unittest.TestCase):
             names = [name for name, _, _ in parameters]
             with self.subTest(function=function.__name__):
                 for at in range(-5, 5):
-                    arguments = [wrong[at][0] for _, _, wrong in parameters]
+                    arguments = [wrong[at][0] if wrong else right for _, right, wrong in parameters]
                     self.check(function, names, arguments, parameters[0][2][at][1])
 
     def test_wrong_drives_of_both_in_joined(self):
@@ -209,6 +281,55 @@ class Wrong(unittest.TestCase):
                 told = outcome(function, [(400, 100), low, high, (0, 0), LATE_DRIVE] + more)
                 self.assertEqual(told[0], "returned" if right else InvalidPull, (function.__name__, low, high))
 
+    def test_beginning_places_of_loads_and_of_the_quickest_drive(self):
+        calls = [(papers.play_loads, [[(1, 2)]], [[]]), (quickest.steps_by, [1], [5]),
+                 (quickest.quickest_tick, [1], [5]), (quickest.quickest_drive, [1], [5]),
+                 (quickest.settled_tick, [1], [5])]
+        for wheel in [(3, 1), (4, 1), (5, 2), (6, 2), (10 ** 29, 1), (10 ** 29 + 1, 7)]:
+            least, greatest = -(wheel[0] // 2), (wheel[0] - 1) // 2
+            for function, before, behind in calls:
+                for place in (least, 0, greatest):
+                    told = outcome(function, [wheel] + before + [place] + behind)
+                    self.assertEqual(told[0], "returned", (function.__name__, wheel, place))
+                for place in (least - 1, greatest + 1, least - wheel[0], wheel[0]):
+                    told = outcome(function, [wheel] + before + [place] + behind)
+                    self.assertEqual(told, (InvalidPlace, {}), (function.__name__, wheel, place))
+
+    def test_stops_and_places(self):
+        for place, stop, right in [(0, 0, True), (0, 1, False), (5, -HUGE, True), (-HUGE, -HUGE, True), (-5, -4, False),
+                                   (HUGE, HUGE + 1, False), (4000, 3999, True)]:
+            for function, arguments in [
+                (stops.play_stop, [(400, 100), 5, place, stop, LATE_DRIVE]),
+                (stops.stop_places, [(400, 100), 5, 6, (place, place + 9), stop, LATE_DRIVE, 4]),
+                (stops.home_steps, [(400, 100), 5, 6, (place, place + 9), stop, 4, 9]),
+                (stops.home_place, [(400, 100), 5, 6, (place, place + 9), stop, 4, 9]),
+            ]:
+                told = outcome(function, arguments)[0]
+                self.assertEqual(told, "returned" if right else InvalidPlace, (function.__name__, place, stop))
+
+    def test_limits_that_are_still_right(self):
+        for function, arguments in [
+            (quickest.quickest_drive, [(400, 100), 20, 0, 0]), (quickest.quickest_drive, [(400, 100), 20, 0, 60]),
+            (quickest.settled_tick, [(400, 100), 20, 0, 0]), (quickest.settled_tick, [(400, 100), 20, 0, 60]),
+            (quickest.quickest_tick, [(400, 100), 1, 0, 10 ** 40]), (quickest.steps_by, [(400, 100), 1, 0, 0]),
+            (stops.home_steps, [(400, 100), 1, 1, (0, 0), 0, 1, 0]),
+            (stops.home_place, [(400, 100), 1, 1, (0, 0), 0, 1, 400]),
+            (slack.late_drive, [(400, 100), 0, AHEAD_DRIVE, 0]), (slack.slack, [(400, 100), 0, []]),
+            (papers.play_loads, [(400, 100), LOADS_400, 0, SIXTY]), (papers.play_loads, [(400, 100), [], 0, []]),
+            (sightings.fits, [(400, 100), 0, 0, (0, 0), [], SIXTY_SEEN]),
+            (sightings.fits, [(400, 100), 0, 0, (0, 0), [], []]),
+        ]:
+            self.assertEqual(outcome(function, arguments)[0], "returned", (function.__name__, arguments))
+
+    def test_a_drive_that_slips_is_told_behind_all_others(self):
+        for wheel, low, drive, error in [
+            ((400, 200), 20, [(0, 3)], (InvalidWheel, {"index": 1})), ((400, 100), -1, [(0, 3)], (InvalidPull, {})),
+            ((400, 100), 20, [(0, 3), (4, -1)], (InvalidDrive, {"index": 1})),
+            ((400, 100), 20, [(0, 3)], (Impossible, {})),
+            ((400, 100), 0, [(0, 2), (HUGE, 1)], (Impossible, {})),
+        ]:
+            self.check(slack.slack, ["wheel", "low", "drive"], [wheel, low, drive], error)
+
     def test_the_index_of_an_item(self):
         for drive in ([], [(0, 1)], LATE_DRIVE, SIXTY):
             for index in (-1, 0, 1, 2, 3, 59, 60):
@@ -247,6 +368,19 @@ class Right(unittest.TestCase):
             (keeping, ["kept_pulls", "next_change"]),
             (places, ["places", "lost_rounds", "final_places"]),
             (losses, ["is_sure", "can_keep", "first_risk", "first_loss", "kept_span"]),
+            (papers, [
+                "play_loads", "slip_paper", "keep_paper", "place_paper", "shows_slip", "shows_keep", "shows_place",
+            ]),
+            (quickest, ["steps_by", "quickest_tick", "quickest_drive", "settled_tick"]),
+            (slack, ["slack", "late_drive", "shows_late"]),
+            (sightings, ["fits", "first_misfit", "places_seen", "sight_paper", "shows_sights"]),
+            (stops, ["play_stop", "stop_places", "home_steps", "home_place"]),
+            (live, ["Follower"]),
+            (texts, [
+                "format_wheel", "format_drive", "format_loads", "format_stretches", "parse_wheel", "parse_drive",
+                "parse_loads",
+            ]),
+            (console, ["Console"]),
         ]:
             for name in names:
                 with self.subTest(file=file.__name__, name=name):
@@ -275,8 +409,22 @@ class Lists(unittest.TestCase):
         for start in ((0, 0), (-7, 12)) for drive in (LATE_DRIVE, [(0, 2), (4, 1)], [])
         for function, more in (
             (places.places, [0]), (places.places, [5]), (places.places, [HUGE]), (places.lost_rounds, [0]),
-            (places.lost_rounds, [5]), (places.final_places, []),
+            (places.lost_rounds, [5]), (places.final_places, []), (sightings.places_seen, [[], 3]),
+            (sightings.places_seen, [SEEN, 2]), (sightings.places_seen, [SEEN, 9]),
+            (sightings.places_seen, [SIXTY_SEEN, 0]), (sightings.places_seen, [[(0, 90, 99)], 0]),
         )
+    ] + [
+        (papers.play_loads, [(400, 100), [(20, 4)], 0, LATE_DRIVE]),
+        (papers.play_loads, [(400, 100), [], 0, LATE_DRIVE]), (papers.play_loads, [(400, 100), [(20, 4)], 0, []]),
+        (quickest.quickest_drive, [(400, 100), 20, 0, 9]), (quickest.quickest_drive, [(400, 100), 20, 0, 0]),
+        (slack.late_drive, [(400, 100), 20, [(0, 3)], 0]),
+        (slack.late_drive, [(400, 100), 20, [(0, 1), (10, 1), (20, 1)], 8]),
+        (stops.play_stop, [(400, 100), 20, 0, 0, LATE_DRIVE]), (stops.play_stop, [(400, 100), 20, 0, 0, []]),
+        (stops.stop_places, [(400, 100), 20, 30, (0, 900), 0, LATE_DRIVE, 0]),
+        (stops.stop_places, [(400, 100), 20, 30, (0, 900), 0, LATE_DRIVE, 5]),
+        (stops.stop_places, [(400, 100), 20, 30, (0, 900), 0, [], 5]),
+        (texts.parse_drive, ["0+2 4-1"]), (texts.parse_drive, [""]), (texts.parse_loads, ["20*4 25"]),
+        (texts.parse_loads, [""]),
     ]
 
     def test_kinds(self):

@@ -1,7 +1,10 @@
 """The examples of the document, as they stand there."""
 
 import doctest
+import re
 import unittest
+
+from poleslips import errors
 
 EXAMPLES = {
     11: """
@@ -123,18 +126,203 @@ EXAMPLES = {
 >>> [kept_span(wheel, 20, 30, (0, 0), drive, 1), kept_span(wheel, 10, 20, (0, 0), drive, 1), kept_span(wheel, 10, 20, (0, 0), drive, 0)]
 [(100, 120), None, (0, 0)]
 """,
+    22: """
+>>> from poleslips.papers import play_loads
+>>> play_loads((400, 100), [(20, 4), (30, 1)], 0, [(0, 2), (4, 1), (6, 1)])
+[(0, 0, 0), (4, 80, 1), (6, 50, 1)]
+""",
+    23: """
+>>> from poleslips.papers import shows_keep, shows_place, shows_slip
+>>> wheel, drive = (400, 100), [(0, 2), (4, 1)]
+>>> some = [(0, [(20, 4)]), (0, [(25, 4)]), (0, [(20, 3)]), (0, [(19, 4)]), (1, [(20, 4)])]
+>>> [(shows_slip(wheel, 20, 30, (0, 0), drive, value), shows_keep(wheel, 20, 30, (0, 0), drive, value)) for value in some]
+[(True, False), (False, True), (False, False), (False, False), (False, False)]
+>>> shows_place(wheel, 20, 30, (0, 0), drive, 5, 79, (0, [(25, 3), (24, 1), (20, 1)]))
+True
+""",
+    24: """
+>>> from poleslips.quickest import steps_by
+>>> wheel = (400, 100)
+>>> [[steps_by(wheel, 20, 0, tick) for tick in (0, 4, 5, 10)], [steps_by(wheel, 170, 0, tick) for tick in range(5)]]
+[[2, 2, 3, 4], [2, 3, 5, 6, 8]]
+>>> [steps_by(wheel, 20, 0, 10 ** 28), steps_by(wheel, 170, 0, 10 ** 28)]
+[2000000000000000000000000002, 15000000000000000000000000002]
+
+>>> from poleslips.quickest import quickest_tick
+>>> [quickest_tick((400, 100), 20, 0, index) for index in range(5)], quickest_tick((400, 100), 20, -200, 0)
+([0, 0, 5, 10, 15], 5)
+""",
+    25: """
+>>> from poleslips.quickest import quickest_drive
+>>> [quickest_drive((400, 100), 20, 0, 4), quickest_drive((400, 100), 170, 0, 7), quickest_drive((400, 100), 20, 0, 0)]
+[[(0, 2), (5, 1), (10, 1)], [(0, 2), (1, 1), (2, 2), (3, 1), (4, 1)], []]
+
+>>> from poleslips.quickest import settled_tick
+>>> [settled_tick((400, 100), 20, 0, 4), settled_tick((400, 100), 20, -150, 0), settled_tick((400, 100), 20, 150, 0)]
+[20, 8, 8]
+""",
+    26: """
+>>> from poleslips.slack import slack
+>>> wheel = (400, 100)
+>>> [slack(wheel, 20, [(0, 1), (10, 1), (20, 1)]), slack(wheel, 20, [(0, 2), (5, 1), (10, 1)]), slack(wheel, 0, [(0, 1), (9, 1)])]
+[7, 0, None]
+>>> slack(wheel, 20, [(0, 3)])
+raises Impossible
+
+>>> from poleslips.slack import late_drive
+>>> late_drive((400, 100), 20, [(0, 1), (10, 1), (20, 1)], 7) is None
+True
+
+>>> from poleslips.slack import shows_late
+>>> wheel, drive = (400, 100), [(0, 1), (10, 1), (20, 1)]
+>>> some = [(8, [(8, 1), (12, 1), (12, 1)]), (7, [(8, 1), (12, 1), (12, 1)]), (8, [(7, 1), (13, 1), (13, 1)])]
+>>> [shows_late(wheel, 20, drive, by, value) for by, value in some]
+[True, False, False]
+""",
+    27: """
+>>> from poleslips.sightings import first_misfit, fits, places_seen
+>>> wheel, drive = (400, 100), [(0, 1)]
+>>> [fits(wheel, 10, 20, (0, 0), drive, [(4, least, 99)]) for least in (80, 81)]
+[True, False]
+>>> [first_misfit(wheel, 10, 20, (0, 0), drive, seen) for seen in ([(2, 20, 25), (4, 70, 80)], [(2, 20, 30), (4, 70, 80)])]
+[1, None]
+>>> [places_seen(wheel, 10, 20, (0, 0), drive, [(4, 75, 80)], tick) for tick in (2, 5)]
+[[(35, 40)], [(85, 100)]]
+""",
+    28: """
+>>> from poleslips.sightings import shows_sights
+>>> wheel, drive, seen = (400, 100), [(0, 1)], [(2, 30, 35), (4, 75, 80)]
+>>> some = [(0, [(20, 1), (15, 1), (20, 2)]), (0, [(20, 4)]), (0, [(15, 2), (20, 2)]), (0, [(20, 2), (20, 1)])]
+>>> [shows_sights(wheel, 10, 20, (0, 0), drive, seen, value) for value in some]
+[True, False, False, False]
+""",
+    29: """
+>>> from poleslips.stops import play_stop
+>>> drive = [(0, -1), (2, -1), (4, -1), (6, -1)]
+>>> [play_stop((400, 100), 50, 0, stop, drive) for stop in (0, -1000)]
+[[(0, 0), (2, 0), (4, 100), (6, 100)], [(0, 0), (2, -100), (4, -200), (6, -300)]]
+
+>>> from poleslips.stops import stop_places
+>>> wheel = (400, 100)
+>>> [stop_places(wheel, 20, 50, (0, 0), 0, [(0, -1), (2, -1)], tick) for tick in (2, 3, 4, 40)]
+[[(0, 0)], [(20, 50)], [(40, 100)], [(200, 200)]]
+>>> [stop_places(wheel, 20, 50, (90, 110), 0, [(0, -1)], tick) for tick in (1, 40)]
+[[(40, 79), (120, 160)], [(0, 0), (300, 300)]]
+""",
+    30: """
+>>> from poleslips.stops import home_place, home_steps
+>>> wheel, spans = (400, 100), [(0, 100), (0, 300), (0, 1000)]
+>>> [home_steps(wheel, 50, 50, span, 0, 10, 60) for span in spans]
+[0, 2, 10]
+>>> [home_place(wheel, 50, 50, span, 0, 10, 60) for span in spans]
+[0, 200, 200]
+>>> home_steps(wheel, 50, 50, (0, 1000), 0, 10, 9) is None
+True
+""",
+    33: """
+>>> from poleslips.live import Follower
+>>> follower = Follower((400, 100), 0)
+>>> [follower.tick, follower.field, follower.pull, follower.place, follower.aim, follower.lost, len(follower)]
+[0, 0, 0, 0, 0, 0, 0]
+>>> [follower.set_pull(20, 0), follower.turn(1, 0), follower.turn(1, 3), follower.place, follower.aim]
+[None, None, None, 60, 200]
+>>> [follower.turn(1, 5), follower.place, follower.lost, follower.would_be()]
+[None, 100, 0, (15, 300)]
+>>> [follower.turn(1, 9), follower.place, follower.aim, follower.lost, follower.slips, follower.would_be()]
+[None, 180, 0, 1, [(9, 1)], (18, 0)]
+>>> [follower.undo(), follower.tick, follower.lost, follower.wait(15), follower.place, len(follower)]
+[None, 5, 0, None, 300, 5]
+>>> other = follower.fork()
+>>> [other == follower, other.turn(3, 15), other.slips, other.turn(-3, 15), other.slips, other.field, other == follower]
+[True, None, [(15, 1)], None, [], 300, False]
+>>> follower.log
+[('pull', 20, 0), ('turn', 1, 0), ('turn', 1, 3), ('turn', 1, 5), ('wait', 15)]
+
+>>> from poleslips.live import Follower
+>>> Follower((400, 100), -150).would_be()
+(None, -150)
+
+>>> from poleslips.live import Follower
+>>> Follower((400, 100), 200)
+raises InvalidPlace
+
+>>> from poleslips.live import Follower
+>>> follower = Follower((400, 100), 0)
+>>> follower.wait(5)
+>>> follower.turn(1, 4)
+raises InvalidTick
+""",
+    34: """
+>>> from poleslips.texts import format_drive, format_loads, format_stretches, format_wheel
+>>> [format_wheel((400, 100)), format_drive([(0, 2), (10, -1)]), format_loads([(20, 4), (25, 1)])]
+['400/100', '0+2 10-1', '20*4 25']
+>>> [format_stretches([(-90, -80), (14, 14), (34, 100)]), format_stretches([])]
+['-90..-80 14 34..100', '']
+""",
+    35: """
+>>> from poleslips.texts import parse_drive, parse_loads, parse_wheel
+>>> [parse_wheel("5/2"), parse_drive("0+2 10-1"), parse_loads("20*4 25 0"), parse_drive("")]
+[(5, 2), [(0, 2), (10, -1)], [(20, 4), (25, 1), (0, 1)], []]
+
+>>> from poleslips.texts import parse_drive
+>>> parse_drive("0+2 0-1")
+raises InvalidSyntax(word=1)
+
+>>> from poleslips.texts import parse_loads
+>>> parse_loads("20*4 25*1")
+raises InvalidSyntax(word=1)
+
+>>> from poleslips.texts import parse_wheel
+>>> parse_wheel("400/200")
+raises InvalidSyntax(word=0)
+""",
+    37: """
+>>> from poleslips.console import Console
+>>> console = Console()
+>>> [console.execute(command) for command in ["drive 0+1", "at 4", "at 12", "risk", "final"]]
+['ok', '40..80', '100', 'none', '100']
+>>> [console.execute(command) for command in ["loads 20 30", "drive 0+2 4+1", "at 5", "risk", "loss", "final"]]
+['ok', 'ok', '50..79 120..150', '1', 'none', '-100 300']
+>>> [console.execute(command) for command in ["drive 0+2 10-1 12-1 13-1", "kept 100", "quick 4"]]
+['ok', '0..14 34..100', '0+2 5+1 10+1']
+>>> [console.execute(command) for command in ["drive 0+1 3+1 5+1 9+1", "play 20", "drive", "play 20", "quick 0"]]
+['ok', '0 60 100 180', 'ok', 'none', 'none']
+
+>>> from poleslips.console import Console
+>>> Console().execute("start 300 400")
+raises InvalidStart(index=0)
+
+>>> from poleslips.console import Console
+>>> Console().execute("drive 0+0")
+raises InvalidCommand
+""",
 }
+
+
+def told_by(source, names):
+    """What a line of an example tells: the answer as Python writes it, or the error with its fields."""
+    try:
+        try:
+            code = compile(source, "example", "eval")
+        except SyntaxError:
+            exec(source, names)
+            return ""
+        answer = eval(code, names)
+    except errors.WheelError as error:
+        fields = ", ".join(f"{name}={value!r}" for name, value in vars(error).items())
+        return f"raises {type(error).__name__}" + (f"({fields})" if fields else "")
+    return "" if answer is None else repr(answer)
 
 
 class Examples(unittest.TestCase):
     def test_examples(self):
         for point, text in EXAMPLES.items():
             with self.subTest(point=point):
-                example = doctest.DocTestParser().get_doctest(text, {}, f"point {point}", None, 0)
-                told = []
-                results = doctest.DocTestRunner(verbose=False).run(example, out=told.append)
-                self.assertGreater(results.attempted, 0)
-                self.assertEqual(results.failed, 0, "".join(told))
+                names = {}
+                examples = doctest.DocTestParser().get_examples(text)
+                self.assertEqual(len(examples), len(re.findall("^>>> ", text, re.MULTILINE)))
+                for example in examples:
+                    self.assertEqual(told_by(example.source, names), example.want.rstrip(), example.source)
 
 
 if __name__ == "__main__":
